@@ -1,0 +1,1 @@
+"""Whoheld: which readers kept the dead rows."""

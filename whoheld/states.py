@@ -1,0 +1,163 @@
+"""The state behind a log."""
+
+from whoheld.checks import row_fits
+from whoheld.effects import pages_behind
+from whoheld.errors import InvalidRow, NoPage, NoSlot
+from whoheld.fates import Fates
+from whoheld.names import is_place
+from whoheld.pages import empty_pages, images_in
+from whoheld.slots import KEY, is_stub, is_version
+from whoheld.versions import cleaned_slots, doubters, ended_commit, has_own_version, is_dead_version
+from whoheld.versions import is_plain_page, made_commit, own_numbers, stands, versions_of
+
+
+class State:
+    """The state behind a log, at first behind the empty one."""
+
+    def __init__(self):
+        self._rows = []
+        self._fates = Fates()
+        self._pages = empty_pages()
+        self._word = None
+
+    @classmethod
+    def of(cls, rows):
+        """The state behind a tuple of any values."""
+        state = cls()
+        for row in rows:
+            state.apply(row)
+        return state
+
+    def apply(self, row):
+        """Takes a valid row."""
+        if not self.can_stand(row):
+            raise InvalidRow(len(self._rows))
+        self._pages = pages_behind(self._fates, self._pages, row)
+        self._fates.take(row)
+        self._rows.append(row)
+        if row[0] == "word":
+            self._word = row[1]
+        elif row[0] == "fall":
+            self._word = None
+
+    def can_stand(self, row):
+        """Whether any value is a row that is valid behind those before it."""
+        return self._fates.may_take(row) and row_fits(self._fates, self._pages, row)
+
+    @property
+    def rows(self):
+        """The tuple of the rows."""
+        return tuple(self._rows)
+
+    @property
+    def pages(self):
+        """The eight page images."""
+        return self._pages
+
+    @property
+    def word_in_force(self):
+        """The word in force for the next row, or None."""
+        return self._word
+
+    @property
+    def stubs(self):
+        """How many stubs there are."""
+        return len([image for images in self._pages for image in images if is_stub(image)])
+
+    def fates(self):
+        """A copy of the fates of the rows."""
+        return self._fates.twin()
+
+    def __getitem__(self, at):
+        if not isinstance(at, tuple) or len(at) != 2:
+            return self._page_at(at)
+        page, slot = at
+        images = self._page_at(page)
+        if not is_place(slot):
+            raise NoSlot(slot)
+        return images[slot]
+
+    def __iter__(self):
+        raise TypeError("a state is not iterated over")
+
+    def __len__(self):
+        return len(self._rows)
+
+    def __repr__(self):
+        return f"State({len(self._rows)} rows, {self._version_count()} versions, {self.stubs} stubs)"
+
+    def entries_of(self, key):
+        """The ascending tuple of the entries of a key."""
+        return tuple([spot for spot, image in images_in(self._pages) if image is not None and image[KEY] == key])
+
+    def made_at(self, page, slot):
+        """The commit of the maker of the version in a slot, or None."""
+        image = self._image_at(page, slot)
+        return made_commit(self._fates, image) if is_version(image) else None
+
+    def ended_at(self, page, slot):
+        """The commit of the ender of the version in a slot, or None."""
+        image = self._image_at(page, slot)
+        return ended_commit(self._fates, image) if is_version(image) else None
+
+    def is_dead(self, page, slot):
+        """Whether a slot has a version with an aborted maker or a committed ender."""
+        return is_dead_version(self._fates, self._image_at(page, slot))
+
+    def own_numbers(self, number):
+        """The tuple of the numbers of its family that are not aborted; () for any value that is no number."""
+        return own_numbers(self._fates, number)
+
+    def standing(self, key, number):
+        """The entry of the version of a key that stands for the transaction with this number, or None."""
+        own = own_numbers(self._fates, number)
+        for page, slot in self.entries_of(key):
+            image = self._pages[page][slot]
+            if is_version(image) and stands(self._fates, image, own):
+                return (page, slot)
+        return None
+
+    def has_own(self, key, number):
+        """Whether an own number made a version of a key."""
+        return has_own_version(versions_of(self._pages, key), own_numbers(self._fates, number))
+
+    def doubts(self, key, number):
+        """The ascending tuple of the outer transactions that put versions of a key in doubt for a number."""
+        images = versions_of(self._pages, key)
+        return tuple(sorted(set([top for image in images for top in doubters(self._fates, image, number)])))
+
+    def prepared_views(self):
+        """The list of the views of the prepared transactions that have not ended."""
+        prepared = [self._fates.prepared(number) for number in self._fates.open_numbers()]
+        return [row_and_view[1] for row_and_view in prepared if row_and_view is not None]
+
+    def cleaned(self, page, horizon):
+        """The pair (removed, marked) of a clean row of a page for this horizon."""
+        return cleaned_slots(self._fates, self._images_of(page), horizon)
+
+    def is_plain(self, page):
+        """Whether a page is plain."""
+        return is_plain_page(self._fates, self._images_of(page))
+
+    def twin(self):
+        """Another state behind the same rows."""
+        other = State()
+        other._rows = list(self._rows)
+        other._fates = self._fates.twin()
+        other._pages = self._pages
+        other._word = self._word
+        return other
+
+    def _version_count(self):
+        return len([image for images in self._pages for image in images if is_version(image)])
+
+    def _page_at(self, page):
+        if not is_place(page):
+            raise NoPage(page)
+        return self._pages[page]
+
+    def _images_of(self, page):
+        return self._pages[page] if is_place(page) else ()
+
+    def _image_at(self, page, slot):
+        return self._pages[page][slot] if is_place(page) and is_place(slot) else None
