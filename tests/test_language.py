@@ -43,6 +43,15 @@ INTERFACE = {
                     "ended_at is_dead standing has_own doubts cleaned is_plain twin __len__ __repr__",
     "readers.Reader": "__init__ view state get scan slots_on __contains__ __getitem__ __len__ close __enter__ __exit__",
     "houses.House": "__init__ log state page_count take reader open_views reading",
+    "cleaners.Cleaner": "__init__ heard horizon local_horizon clean tidy sweep hear",
+    "recoverers.Recoverer": "__init__ synced sync fall settle of",
+    "transactions.Transaction": "__init__ view state put change strike lock sign get scan count inner commit abort "
+                                "prepare attempt",
+    "transactions.Inner": "__init__",
+    "store.Store": "__init__ begin transactions of",
+    "far.Far": "__init__ position least_view cancelled take follow",
+    "logs.Log": "__init__ rows state_behind read __str__ __repr__ __len__ __getitem__ later __eq__ cut beginnings "
+                "of_family",
 }
 FUNCTIONS = {
     "names": "is_integer is_below is_key is_value is_number is_spot",
@@ -51,7 +60,18 @@ FUNCTIONS = {
     "slots": "is_slot",
     "pages": "is_page empty_pages due_slot entries",
     "views": "seen get scan count page_slots",
+    "horizons": "word_in_force horizon_of",
+    "locking": "blockers verdict",
+    "playing": "played",
+    "floors": "floor_of ceiling_of spans heights",
+    "ranges": "range_of ranges end_of",
+    "holders": "word_at who open_spans",
 }
+GENERATORS = (
+    "views.scan", "readers.Reader.scan", "transactions.Transaction.scan", "logs.Log.beginnings", "logs.Log.of_family",
+    "floors.spans", "ranges.ranges", "holders.open_spans",
+)
+OWN_ERRORS = {"HoldError", "TurnError", "AbsentError", "SizeError"}
 
 
 def read(name):
@@ -216,6 +236,10 @@ class NamesTest(unittest.TestCase):
         attributes = {
             node.attr for _, node in NODES if isinstance(node, ast.Attribute) and isinstance(node.ctx, ast.Store)
         }
+        attributes |= {
+            part.targets[0].id for _, holder in CLASSES for part in holder.body if isinstance(part, ast.Assign)
+        }
+        self.assertEqual(attributes & OWN_METHODS, set())
         for name, node in NODES:
             if isinstance(node, ast.Call) and isinstance(node.func, ast.Attribute):
                 self.assertIn(node.func.attr, METHODS | OWN_METHODS, name)
@@ -247,9 +271,7 @@ def names_bound_in(tree):
 
 
 class StatementsTest(unittest.TestCase):
-    BARRED = (
-        ast.GeneratorExp, ast.Global, ast.AsyncFunctionDef, ast.Await, ast.NamedExpr, ast.AnnAssign, ast.Div, ast.Try,
-    )
+    BARRED = (ast.GeneratorExp, ast.Global, ast.AsyncFunctionDef, ast.Await, ast.NamedExpr, ast.AnnAssign, ast.Div)
 
     def test_statements_and_expressions(self):
         for name, node in NODES:
@@ -258,8 +280,14 @@ class StatementsTest(unittest.TestCase):
                 self.assertIsInstance(node.value, (int, str, bytes, type(None)), name)
                 if isinstance(node.value, str):
                     self.assertNotIn("%", node.value, name)
-            if isinstance(node, ast.Raise):
+            if isinstance(node, ast.Raise) and node.exc is not None:
                 self.assertIsInstance(node.exc, ast.Call, name)
+                self.assertTrue(node.cause is None or ast.unparse(node.cause) == "None", name)
+            if isinstance(node, ast.Try):
+                self.assertEqual([node.orelse, node.finalbody, len(node.handlers)], [[], [], 1], name)
+            if isinstance(node, ast.ExceptHandler):
+                self.assertIsNone(node.name)
+                self.assertLessEqual({part.id for part in node.type.elts}, OWN_ERRORS, name)
             if isinstance(node, ast.Compare) and isinstance(node.ops[0], (ast.Is, ast.IsNot)):
                 self.assertIn(ast.unparse(node.comparators[0]), ("None", "True", "False"), name)
 
@@ -274,7 +302,7 @@ class StatementsTest(unittest.TestCase):
     def test_functions(self):
         for name, node in DEFS:
             for part in node.args.defaults + node.args.kw_defaults:
-                self.assertTrue(part is None or isinstance(part, ast.Constant), (name, node.name))
+                self.assertTrue(part is None or isinstance(part, ast.Constant) or ast.unparse(part) == "()", node.name)
             for decorator in node.decorator_list:
                 self.assertIn(ast.unparse(decorator), ("property", "classmethod", "staticmethod"), name)
             for inner in ast.walk(node):
@@ -294,7 +322,10 @@ class ClassesTest(unittest.TestCase):
         for name, node in CLASSES:
             self.assertEqual((node.decorator_list, node.keywords), ([], []), name)
             for at, part in enumerate(node.body):
-                if not isinstance(part, ast.FunctionDef):
+                if isinstance(part, ast.Assign):
+                    self.assertRegex(part.targets[0].id, "^[A-Z]+$", (name, node.name))
+                    self.assertIsInstance(part.value, ast.Constant, (name, node.name))
+                elif not isinstance(part, ast.FunctionDef):
                     self.assertTrue(at == 0 and isinstance(part, ast.Expr), (name, node.name))
             methods = [part.name for part in node.body if isinstance(part, ast.FunctionDef)]
             self.assertEqual(len(methods), len(set(methods)), node.name)
@@ -339,7 +370,20 @@ class ClassesTest(unittest.TestCase):
         for _, holder in CLASSES:
             for node in holder.body:
                 if isinstance(node, ast.FunctionDef) and not node.decorator_list:
-                    self.assertNotIn(node.name, properties | METHODS - {"get"})
+                    self.assertNotIn(node.name, properties | METHODS - {"get", "count"})
+
+    def test_super_stands_in_methods_only(self):
+        for name, node in DEFS:
+            arguments = node.args.posonlyargs + node.args.args
+            is_plain = arguments and arguments[0].arg == "self" and not node.decorator_list
+            if "super" in calls_in(node):
+                self.assertTrue(is_plain, (name, node.name))
+
+    def test_no_method_is_read_off_a_class(self):
+        classes = {holder.name for _, holder in CLASSES}
+        for name, node in NODES:
+            if isinstance(node, ast.Attribute) and isinstance(node.value, ast.Name) and node.value.id in classes:
+                self.assertIn(node.attr, ("of", "read", "MOST"), name)
 
 
 class InterfaceTest(unittest.TestCase):
@@ -356,7 +400,9 @@ class InterfaceTest(unittest.TestCase):
             self.assertEqual(set(names.split()) - found, set(), file)
 
     def test_generators_of_the_interface(self):
-        for file, name in (("views", "scan"), ("readers", "scan")):
-            module = __import__("whoheld." + file, fromlist=[name])
-            function = module.scan if file == "views" else module.Reader.scan
-            self.assertTrue(inspect.isgeneratorfunction(function))
+        for place in GENERATORS:
+            file, *names = place.split(".")
+            found = __import__("whoheld." + file, fromlist=names)
+            for name in names:
+                found = getattr(found, name)
+            self.assertTrue(inspect.isgeneratorfunction(found), place)

@@ -17,6 +17,8 @@ class House:
         self._page_count = pages
         self._state = State()
         self._readers = []
+        # The outer transactions: only a store begins some.
+        self._begun = []
 
     @property
     def log(self):
@@ -35,12 +37,10 @@ class House:
 
     def take(self, row):
         """Writes a row that is valid behind the log and names pages of the house only."""
-        if is_row(row) and any([page >= self._page_count for page in pages_in(row)]):
-            raise InvalidRow(len(self._state))
-        self._state.apply(row)
+        self._write(row)
         if row[0] == "fall":
-            for reader in self._readers:
-                reader.finish("fallen")
+            for holder in self._readers + self._begun:
+                holder.finish("fallen")
 
     def reader(self):
         """A new reader, which is open."""
@@ -50,11 +50,16 @@ class House:
         return reader
 
     def open_views(self):
-        """The ascending list of the views of open readers and prepared transactions, each once."""
-        views = [reader.view for reader in self._readers if reader.state == "open"]
-        return sorted(set(views + self._state.prepared_views()))
+        """The ascending list of the views of open readers and transactions and of prepared ones, each once."""
+        views = [holder.view for holder in self._readers + self._begun if holder.state == "open"]
+        return sorted(set(views + [view for _, view in self._state.waiting()]))
 
     def reading(self, work):
         """Calls `work` with a new reader, which is closed behind the call, and returns what it returns."""
         with self.reader() as reader:
             return work(reader)
+
+    def _write(self, row):
+        if is_row(row) and any([page >= self._page_count for page in pages_in(row)]):
+            raise InvalidRow(len(self._state))
+        self._state.apply(row)

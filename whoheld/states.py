@@ -8,7 +8,7 @@ from whoheld.names import is_place
 from whoheld.pages import empty_pages, images_in
 from whoheld.slots import KEY, is_stub, is_version
 from whoheld.versions import cleaned_slots, doubters, ended_commit, has_own_version, is_dead_version
-from whoheld.versions import is_plain_page, made_commit, own_numbers, stands, versions_of
+from whoheld.versions import is_plain_page, made_commit, own_numbers, rivals, stands, versions_of
 
 
 class State:
@@ -126,10 +126,27 @@ class State:
         images = versions_of(self._pages, key)
         return tuple(sorted(set([top for image in images for top in doubters(self._fates, image, number)])))
 
-    def prepared_views(self):
-        """The list of the views of the prepared transactions that have not ended."""
-        prepared = [self._fates.prepared(number) for number in self._fates.open_numbers()]
-        return [row_and_view[1] for row_and_view in prepared if row_and_view is not None]
+    def rivals(self, number, others):
+        """The ascending list of the outer transactions of those of `others` that are open and of another family."""
+        return sorted(set(rivals(self._fates, number, others)))
+
+    def fate_of(self, number):
+        """The pair of the fate of a number and of the row that decided it, as `Fates.fate` tells it."""
+        return self._fates.fate(number)
+
+    def is_outer(self, number):
+        """Whether a number is that of an outer transaction."""
+        return self._fates.outer_of(number) is None
+
+    def next_number(self):
+        """The number that the next open row has."""
+        return self._fates.greatest + 1
+
+    def waiting(self):
+        """The ascending list of the pairs (number, view) of the prepared transactions that have not ended."""
+        found = [number for number in self._fates.open_numbers() if self.is_outer(number)]
+        prepared = [(number, self._fates.prepared(number)) for number in found]
+        return [(number, row_and_view[1]) for number, row_and_view in prepared if row_and_view is not None]
 
     def cleaned(self, page, horizon):
         """The pair (removed, marked) of a clean row of a page for this horizon."""
@@ -142,11 +159,18 @@ class State:
     def twin(self):
         """Another state behind the same rows."""
         other = State()
-        other._rows = list(self._rows)
-        other._fates = self._fates.twin()
-        other._pages = self._pages
-        other._word = self._word
+        other._become(self)
         return other
+
+    def lose(self, count):
+        """Forgets the last rows and what they did."""
+        self._become(State.of(self._rows[:len(self._rows) - count]))
+
+    def _become(self, other):
+        self._rows = list(other._rows)
+        self._fates = other._fates.twin()
+        self._pages = other._pages
+        self._word = other._word
 
     def _version_count(self):
         return len([image for images in self._pages for image in images if is_version(image)])
