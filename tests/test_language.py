@@ -291,6 +291,18 @@ class StatementsTest(unittest.TestCase):
             if isinstance(node, ast.Compare) and isinstance(node.ops[0], (ast.Is, ast.IsNot)):
                 self.assertIn(ast.unparse(node.comparators[0]), ("None", "True", "False"), name)
 
+    def test_attributes_are_assigned_through_a_local_name(self):
+        for name, node in NODES:
+            if isinstance(node, ast.Attribute) and not isinstance(node.ctx, ast.Load):
+                self.assertIsInstance(node.value, ast.Name, (name, node.lineno))
+
+    def test_stars_stand_before_plain_names(self):
+        for name, node in NODES:
+            if isinstance(node, ast.Call):
+                for part in node.args:
+                    if isinstance(part, ast.Starred):
+                        self.assertIsInstance(part.value, ast.Name, (name, node.lineno))
+
     def test_sets_are_used_where_they_are_written(self):
         for name, node in NODES:
             for child in ast.iter_child_nodes(node):

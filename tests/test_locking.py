@@ -1,6 +1,6 @@
 import unittest
 
-from samples import puts, same
+from samples import letters, puts, same
 from whoheld.locking import blockers, verdict
 from whoheld.states import State
 
@@ -87,6 +87,12 @@ class PutTest(unittest.TestCase):
                 for view in (0, 9, 30):
                     same(self, verdict(state, view, number, "put", key, pages=pages), told)
         same(self, verdict(state=state, view=18, number=5, word="put", key="z"), ("done", 1, 0))
+
+    def test_all_pages(self):
+        rows = (("open", 1, None),) + puts(1, 0, letters(64))
+        same(self, verdict(State.of(rows[:57]), 0, 1, "put", "z"), ("done", 7, 0))
+        same(self, verdict(State.of(rows[:57]), 0, 1, "change", "aa"), ("done", 0, 0))
+        same(self, verdict(State.of(rows), 0, 1, "put", "z"), ("full",))
 
     def test_the_own_family(self):
         rows = FULL + (("open", 6, 2), ("open", 7, None), ("put", 7, 1, 0, "i", "x"))

@@ -94,6 +94,8 @@ class RandomStoreTest(unittest.TestCase):
         elif word == "fall":
             lost = rng.choice((0, 1, rng.randrange(len(model.log) - model.synced + 2)))
             self.same(word, asked(store.fall, lost=lost), model.fall(lost))
+            # A number that was lost may be given to a transaction of the store.
+            self.hand = [number for number in self.hand if number in model.past.numbers.opened]
         elif word == "hand":
             self.act_by_hand()
         else:

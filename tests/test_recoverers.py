@@ -91,7 +91,7 @@ class SyncedTest(RecovererCase):
 
     def test_it_is_a_house(self):
         self.assertIsInstance(Recoverer(), House)
-        self.assertEqual(Recoverer(pages=2).page_count, 2)
+        self.assertEqual([Recoverer().page_count, Recoverer(pages=2).page_count], [8, 2])
         for value in ODD_VALUES + (0, 9):
             self.assertIs(raised(self, InvalidPages, Recoverer, pages=value).value, value)
 

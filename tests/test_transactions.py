@@ -536,6 +536,17 @@ class AttemptTest(TransactionCase):
                     self.assertEqual(one.attempt(work), 5)
                 same(self, [kept[0].state, one.state, len(store.log)], [state, "open", 4])
 
+    def test_work_that_ends_its_transaction_and_raises(self):
+        for end in ("commit", "abort"):
+            one = Store().begin()
+
+            def work(inner):
+                getattr(inner, end)()
+                raise NoKey("m")
+
+            self.assertEqual(raised(self, NoKey, one.attempt, work).key, "m")
+            self.assertEqual(one.state, "open")
+
     def test_work_that_ends_one_and_leaves_another_open(self):
         store = Store()
         one = store.begin()

@@ -64,8 +64,8 @@ class Play:
         elif row[0] == "clean":
             store.clean(row[1])
         elif row[0] == "tidy":
-            slots = row[2]
-            store.tidy(row[1], *slots)
+            page, slots = row[1:]
+            store.tidy(page, *slots)
         elif row[0] == "sweep":
             store.sweep()
         elif row[0] == "word":

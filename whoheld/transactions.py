@@ -136,12 +136,10 @@ class Transaction:
         return result
 
     def finish(self, ending):
-        """Ends it and those within it in this way without a row if it is open, and tells whether it was."""
-        if self._ending is not None:
-            return False
-        for member in self._open_ones():
-            member._end(ending)
-        return True
+        """Ends it and those within it in this way without a row, if it is open."""
+        if self._ending is None:
+            for member in self._open_ones():
+                member._end(ending)
 
     def _need_open(self):
         if self._ending is not None:
@@ -210,9 +208,10 @@ class Transaction:
         self._end(ending)
 
     def _end(self, ending):
+        outer = self.outer
         self._ending = ending
-        if self.outer is not None:
-            self.outer._within = None
+        if outer is not None:
+            outer._within = None
 
     def _line(self):
         # It and those around it, from the outside.
