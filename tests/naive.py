@@ -3,8 +3,6 @@
 `Evidence(rows)` tells what the rows of a valid log show; `first_unplayed` tells which row a store would not write.
 """
 
-import copy
-
 from oracle import Numbers, Past
 
 TOUCHING = ("change", "strike", "lock", "refused")
@@ -14,7 +12,7 @@ def after(past, *rows):
     """The past behind some more valid rows."""
     for row in rows:
         later = Past(())
-        later.slots = copy.deepcopy(past.slots)
+        later.slots = {spot: copied(held) for spot, held in past.slots.items()}
         later.numbers = past.numbers
         later.step(row)
         later.rows = past.rows + (row,)
@@ -29,6 +27,13 @@ def pasts_of(rows):
     for row in rows:
         found.append(after(found[-1], row))
     return found
+
+
+def copied(held):
+    """What is in a slot, once more."""
+    if held is None or "maker" not in held:
+        return held
+    return dict(held, lockers=list(held["lockers"]))
 
 
 class Evidence:

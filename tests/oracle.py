@@ -15,6 +15,7 @@ class Numbers:
         self.running = []
         for index, row in enumerate(self.rows):
             self.step(index, row)
+        self.known = {}
 
     def step(self, index, row):
         word = row[0]
@@ -48,6 +49,11 @@ class Numbers:
         return [other for other in self.opened if self.top(other) == self.top(number)]
 
     def fate(self, number):
+        if number not in self.known:
+            self.known[number] = self.found_fate(number)
+        return self.known[number]
+
+    def found_fate(self, number):
         hits = [hit for other in self.around(number) for hit in self.hits[other]]
         if hits:
             return ("aborted", min(hits))

@@ -52,6 +52,9 @@ INTERFACE = {
     "far.Far": "__init__ position least_view cancelled take follow",
     "logs.Log": "__init__ rows state_behind read __str__ __repr__ __len__ __getitem__ later __eq__ cut beginnings "
                 "of_family",
+    "held.Held": "__init__ rows fewest views stays apart paper spans who range_of later __contains__ __getitem__ "
+                 "__len__ __eq__ __repr__",
+    "desk.Desk": "__init__ say say_all names",
 }
 FUNCTIONS = {
     "names": "is_integer is_below is_key is_value is_number is_spot",
@@ -66,12 +69,22 @@ FUNCTIONS = {
     "floors": "floor_of ceiling_of spans heights",
     "ranges": "range_of ranges end_of",
     "holders": "word_at who open_spans",
+    "bars": "bar",
+    "fewest": "fewest_readers apart stays paper",
+    "shortest": "main_spans least_length shortest",
+    "explaining": "first_lack explains",
+    "apartness": "are_apart is_apart shows_readers",
+    "barcheck": "shows_bar shows_paper",
+    "reasons": "floor_reason ceiling_reason",
+    "reasoncheck": "shows_floor shows_ceiling",
+    "shortcheck": "holds shows_shortest",
+    "papertexts": "write_paper read_paper",
 }
 GENERATORS = (
     "views.scan", "readers.Reader.scan", "transactions.Transaction.scan", "logs.Log.beginnings", "logs.Log.of_family",
-    "floors.spans", "ranges.ranges", "holders.open_spans",
+    "floors.spans", "ranges.ranges", "holders.open_spans", "shortest.main_spans", "held.Held.spans", "desk.Desk.say_all",
 )
-OWN_ERRORS = {"HoldError", "TurnError", "AbsentError", "SizeError"}
+OWN_ERRORS = {"HoldError", "TurnError", "AbsentError", "SizeError", "InvalidText"}
 
 
 def read(name):
@@ -286,8 +299,12 @@ class StatementsTest(unittest.TestCase):
             if isinstance(node, ast.Try):
                 self.assertEqual([node.orelse, node.finalbody, len(node.handlers)], [[], [], 1], name)
             if isinstance(node, ast.ExceptHandler):
-                self.assertIsNone(node.name)
-                self.assertLessEqual({part.id for part in node.type.elts}, OWN_ERRORS, name)
+                caught = node.type.elts if isinstance(node.type, ast.Tuple) else [node.type]
+                self.assertLessEqual({part.id for part in caught}, OWN_ERRORS, name)
+                uses = [part for part in ast.walk(node) if isinstance(part, ast.Attribute)
+                        and isinstance(part.value, ast.Name) and part.value.id == node.name]
+                names = [part for part in ast.walk(node) if isinstance(part, ast.Name) and part.id == node.name]
+                self.assertEqual(len(uses), len(names), name)
             if isinstance(node, ast.Compare) and isinstance(node.ops[0], (ast.Is, ast.IsNot)):
                 self.assertIn(ast.unparse(node.comparators[0]), ("None", "True", "False"), name)
 
@@ -325,8 +342,27 @@ class StatementsTest(unittest.TestCase):
         for name, node in DEFS:
             if node.name in generators:
                 self.assertTrue(is_generator(node), (name, node.name))
-        for name, node in DEFS:
-            self.assertFalse(generators & set(calls_in(node)), (name, node.name))
+        for name, node in NODES:
+            if isinstance(node, (ast.For, ast.comprehension)):
+                iterated = [node.iter]
+            elif isinstance(node, ast.Call) and isinstance(node.func, ast.Name) and node.func.id in ("list", "tuple"):
+                iterated = node.args
+            else:
+                iterated = []
+            for child in ast.iter_child_nodes(node):
+                if isinstance(child, ast.Call) and ast.unparse(child.func).split(".")[-1] in generators:
+                    self.assertIn(child, iterated, (name, ast.unparse(child)))
+
+    def test_reversed_goes_over_lists(self):
+        for name, node in NODES:
+            if isinstance(node, ast.Call) and ast.unparse(node.func) == "reversed":
+                self.assertRegex(ast.unparse(node.args[0]), r"^(list|tuple|sorted|range)\(", name)
+
+    def test_checks_drive_no_store(self):
+        for name in ("explaining", "apartness", "barcheck", "reasoncheck", "shortcheck"):
+            graph = {other: {node.module[len("whoheld."):] for node in tree.body if isinstance(node, ast.ImportFrom)}
+                     for other, tree in TREES.items()}
+            self.assertFalse({"store", "houses", "cleaners", "transactions", "playing", "horizons"} & reached(graph, name))
 
 
 class ClassesTest(unittest.TestCase):

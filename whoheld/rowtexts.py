@@ -34,6 +34,15 @@ def read_rows(text):
     return tuple([_read_line(part, line) for line, part in enumerate(text.split("\n"))])
 
 
+def read_integer(word):
+    """The integer that a word writes, or the word itself if it writes none."""
+    if not 1 <= len(word) <= MOST_DIGITS or any([character not in DIGITS for character in word]):
+        return word
+    if word[0] == "0" and word != "0":
+        return word
+    return int(word)
+
+
 def _write_part(part):
     if part is None or part == ():
         return NOTHING
@@ -67,18 +76,10 @@ def _read_part(kind, word):
         return _read_slots(word)
     if kind in ("outer", "told") and word == NOTHING:
         return None
-    return _read_integer(word)
+    return read_integer(word)
 
 
 def _read_slots(word):
     if word == NOTHING:
         return ()
-    return tuple([_read_integer(piece) for piece in word.split(",")])
-
-
-def _read_integer(word):
-    if not 1 <= len(word) <= MOST_DIGITS or any([character not in DIGITS for character in word]):
-        return word
-    if word[0] == "0" and word != "0":
-        return word
-    return int(word)
+    return tuple([read_integer(piece) for piece in word.split(",")])

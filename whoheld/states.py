@@ -138,6 +138,10 @@ class State:
         """Whether a number is that of an outer transaction."""
         return self._fates.outer_of(number) is None
 
+    def top_of(self, number):
+        """The number of the outer transaction of the family of a number."""
+        return self._fates.top_of(number)
+
     def next_number(self):
         """The number that the next open row has."""
         return self._fates.greatest + 1
