@@ -84,7 +84,7 @@ GENERATORS = (
     "views.scan", "readers.Reader.scan", "transactions.Transaction.scan", "logs.Log.beginnings", "logs.Log.of_family",
     "floors.spans", "ranges.ranges", "holders.open_spans", "shortest.main_spans", "held.Held.spans", "desk.Desk.say_all",
 )
-OWN_ERRORS = {"HoldError", "TurnError", "AbsentError", "SizeError", "InvalidText"}
+OWN_ERRORS = {"HoldError", "TurnError", "AbsentError", "SizeError", "InvalidText", "Unplayed"}
 
 
 def read(name):

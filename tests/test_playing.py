@@ -6,6 +6,7 @@ from naive import Evidence
 from samples import ODD_VALUES, TWO_COMMITS, puts, raised, same
 from whoheld.errors import InvalidRow, Unplayed
 from whoheld.playing import played
+from whoheld.states import State
 from whoheld.store import Store
 
 ROWS = TWO_COMMITS + (("clean", 0, (), (0,)),)
@@ -35,6 +36,41 @@ class PlayedTest(unittest.TestCase):
                 self.assertEqual(raised(self, InvalidRow, played, value, (), ()).index, 0)
         # That is told ahead of a row that is not written just so.
         self.assertEqual(raised(self, InvalidRow, played, ROWS + (("sweep",),)).index, 7)
+
+    def test_logs_that_were_changed(self):
+        # Whatever the store makes of such rows, the first one that is not valid is told.
+        seen = 0
+        for seed in range(60):
+            rng = random.Random(seed)
+            driver = Driver(rng).drive(40)
+            for _ in range(15):
+                rows = list(driver.store.log)
+                for _ in range(rng.randrange(1, 3)):
+                    at, other = rng.randrange(len(rows)), rng.randrange(len(rows))
+                    what = rng.choice(("swap", "drop", "twice", "part"))
+                    if what == "swap":
+                        rows[at], rows[other] = rows[other], rows[at]
+                    elif what == "drop":
+                        rows.pop(at)
+                    elif what == "twice":
+                        rows.insert(at, rows[other])
+                    else:
+                        part = rng.randrange(len(rows[at]))
+                        value = rng.choice((None, True, 0, 1, 2, 3, (), (0,), (1,), "k", rng.choice(rows[other])))
+                        rows[at] = rows[at][:part] + (value,) + rows[at][part + 1:]
+                expected = self.first_wrong(tuple(rows))
+                if expected is not None:
+                    error = raised(self, InvalidRow, played, tuple(rows), driver.views()[:3], driver.stays())
+                    self.assertEqual(error.index, expected)
+                    seen += 1
+        self.assertGreater(seen, 400)
+
+    def first_wrong(self, rows):
+        try:
+            State.of(rows)
+        except InvalidRow as error:
+            return error.index
+        return None
 
     def test_views_that_do_not_see(self):
         rows = TWO_COMMITS

@@ -12,11 +12,12 @@ class Fates:
 
     def __init__(self, *rows):
         self._rows = []
-        # By number: the number around it, its open row, its outermost one, and its fate unless it is open.
+        # By number: the number around it, its open row, its outermost one, and the row that committed or aborted it.
         self._arounds = {}
         self._firsts = {}
         self._tops = {}
-        self._settled = {}
+        self._commits = {}
+        self._aborts = {}
         # By outer transaction: its family, those of it that run from the outside,
         # the row and the view of its prepare row, and the row that ended it.
         self._families = {}
@@ -28,34 +29,42 @@ class Fates:
 
     def may_take(self, row):
         """Whether any value is a row that may stand next by the rules of numbers."""
-        if not is_row(row):
-            return False
-        if row[0] == "open":
-            return self._may_begin(row[1], row[2])
-        if row[0] in ("put", "change", "strike", "lock", "refused"):
-            return self._is_acting(row[1])
-        if row[0] in ("commit", "abort"):
-            return self._is_acting(row[1]) or self._is_waiting(row[1])
-        if row[0] == "prepare":
-            return self._may_prepare(row[1], row[2])
-        if row[0] == "word":
-            return row[1] is None or row[1] <= len(self._rows)
-        return True
+        return is_row(row) and self.allows(row)
 
     def take(self, row):
         """Takes a row that may stand next."""
         if not self.may_take(row):
             raise InvalidRow(len(self._rows))
-        if row[0] == "open":
+        self.enter(row)
+
+    def allows(self, row):
+        """Whether a row may stand next by the rules of numbers."""
+        word = row[0]
+        if word == "open":
+            return self._may_begin(row[1], row[2])
+        if word in ("put", "change", "strike", "lock", "refused"):
+            return self._is_acting(row[1])
+        if word in ("commit", "abort"):
+            return self._is_acting(row[1]) or self._is_waiting(row[1])
+        if word == "prepare":
+            return self._may_prepare(row[1], row[2])
+        if word == "word":
+            return row[1] is None or row[1] <= len(self._rows)
+        return True
+
+    def enter(self, row):
+        """Takes a row of which it is known that it may stand next."""
+        word = row[0]
+        if word == "open":
             self._begin(row[1], row[2])
-        elif row[0] == "commit":
+        elif word == "commit":
             self._commit(row[1])
-        elif row[0] == "abort":
+        elif word == "abort":
             self._abort(row[1])
-        elif row[0] == "prepare":
+        elif word == "prepare":
             self._prepared[row[1]] = (len(self._rows), row[2])
             self._running[row[1]] = ()
-        elif row[0] == "fall":
+        elif word == "fall":
             self._fall()
         self._rows.append(row)
 
@@ -72,7 +81,8 @@ class Fates:
         other._arounds = dict(self._arounds)
         other._firsts = dict(self._firsts)
         other._tops = dict(self._tops)
-        other._settled = dict(self._settled)
+        other._commits = dict(self._commits)
+        other._aborts = dict(self._aborts)
         other._families = dict(self._families)
         other._running = dict(self._running)
         other._prepared = dict(self._prepared)
@@ -123,12 +133,13 @@ class Fates:
     def fate(self, number, *, at=None):
         """The pair of its fate by the rows before `at`, or by all rows, and of the row that decided it."""
         self._need(number)
-        if number not in self._settled:
+        if number in self._commits:
+            word, row = "committed", self._commits[number]
+        elif number in self._aborts:
+            word, row = "aborted", self._aborts[number]
+        else:
             return ("open", None)
-        word, row = self._settled[number]
-        if at is not None and at <= row:
-            return ("open", None)
-        return (word, row)
+        return ("open", None) if at is not None and at <= row else (word, row)
 
     def end(self, number):
         """The row that ended the outer transaction of its family, or the number of the rows."""
@@ -149,14 +160,57 @@ class Fates:
 
     def open_numbers(self):
         """The ascending tuple of all numbers that are open."""
-        return tuple([number for number in self._firsts if number not in self._settled])
+        return tuple([number for number in self._firsts if self.is_open(number)])
+
+    def commit_row(self, number):
+        """The row of "committed" in the fate of a number, or None; None for None."""
+        return self._commits.get(number)
+
+    def is_aborted(self, number):
+        """Whether a number is aborted; None is not."""
+        return number in self._aborts
+
+    def is_open(self, number):
+        """Whether a number is open; None is not."""
+        return number is not None and number not in self._commits and number not in self._aborts
+
+    def own_numbers(self, number):
+        """The list of the numbers of its family that are not aborted; none for any value that is no number here."""
+        if number is None or number not in self:
+            return []
+        return [other for other in self._families[self._tops[number]] if other not in self._aborts]
+
+    def rivals(self, number, others):
+        """The list of the outer transactions of those of `others` that are open and of another family."""
+        rivals = [self._tops[other] for other in others if self.is_open(other)]
+        if len(rivals) == 0:
+            return rivals
+        # Any value that is no number here is a family by itself.
+        mine = self._tops[number] if number in self else None
+        return [top for top in rivals if top != mine]
+
+    def waiting(self):
+        """The ascending list of the pairs (number, view) of the prepared transactions that have not ended."""
+        return sorted([(number, view) for number, (_, view) in self._prepared.items() if number not in self._ends])
+
+    def outer_facts(self):
+        """The list of the outer transactions: number, open row, end, and the view of the prepare row or None."""
+        open_end = len(self._rows)
+        views = {number: view for number, (_, view) in self._prepared.items()}
+        return [
+            (number, self._firsts[number], self._ends.get(number, open_end), views.get(number))
+            for number in self._families
+        ]
 
     def _need(self, number):
-        if number not in self:
+        if not is_number(number) or number not in self._firsts:
             raise NoNumber(number)
 
     def _is_acting(self, number):
-        return number in self and self.acting(number) == number
+        if number not in self._tops:
+            return False
+        running = self._running[self._tops[number]]
+        return len(running) > 0 and running[-1] == number
 
     def _is_waiting(self, number):
         return number in self._prepared and number not in self._ends
@@ -210,8 +264,10 @@ class Fates:
 
     def _settle(self, number, word):
         # What was aborted before keeps the first row that aborted it.
-        if number not in self._settled:
-            self._settled[number] = (word, len(self._rows))
+        if word == "committed" and number not in self._aborts:
+            self._commits[number] = len(self._rows)
+        elif number not in self._aborts:
+            self._aborts[number] = len(self._rows)
 
     def _leave(self, number):
         top = self._tops[number]

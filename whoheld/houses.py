@@ -46,12 +46,12 @@ class House:
         """A new reader, which is open."""
         reader = Reader(self, len(self._state))
         # Readers that have ended never open again.
-        self._readers = [other for other in self._readers if other.state == "open"] + [reader]
+        self._readers = [other for other in self._readers if other._ending is None] + [reader]
         return reader
 
     def open_views(self):
         """The ascending list of the views of open readers and transactions and of prepared ones, each once."""
-        views = [holder.view for holder in self._readers + self._begun if holder.state == "open"]
+        views = [holder._view for holder in self._readers + self._begun if holder._ending is None]
         return sorted(set(views + [view for _, view in self._state.waiting()]))
 
     def reading(self, work):
@@ -60,6 +60,9 @@ class House:
             return work(reader)
 
     def _write(self, row):
-        if is_row(row) and any([page >= self._page_count for page in pages_in(row)]):
+        if self._page_count < MOST_PAGES and is_row(row) and not self._has_pages_of(row):
             raise InvalidRow(len(self._state))
         self._state.apply(row)
+
+    def _has_pages_of(self, row):
+        return all([page < self._page_count for page in pages_in(row)])

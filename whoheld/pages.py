@@ -21,33 +21,16 @@ def empty_pages():
 def due_slot(pages, count=8):
     """The spot that a new version takes if only the first `count` pages are used, or None."""
     for page, images in enumerate(pages[:count]):
-        for slot, image in enumerate(images):
-            if image is None:
-                return (page, slot)
+        if None in images:
+            return (page, images.index(None))
     return None
 
 
 def entries(pages):
     """A dict from each key, ascending, to the ascending tuple of its entries."""
     found = {}
-    for spot, image in images_in(pages):
-        if image is not None:
-            key = image[KEY]
-            found[key] = found[key] + (spot,) if key in found else (spot,)
+    for page, images in enumerate(pages):
+        for slot, image in enumerate(images):
+            if image is not None:
+                found[image[KEY]] = found.get(image[KEY], ()) + ((page, slot),)
     return {key: found[key] for key in sorted(found)}
-
-
-def images_in(pages):
-    """The list of the pairs of a spot and its slot image, in the order of the spots."""
-    return [
-        ((page, slot), image)
-        for page, images in enumerate(pages)
-        for slot, image in enumerate(images)
-    ]
-
-
-def with_image(pages, spot, image):
-    """The pages with another image at this spot."""
-    page, slot = spot
-    images = pages[page][:slot] + (image,) + pages[page][slot + 1:]
-    return pages[:page] + (images,) + pages[page + 1:]

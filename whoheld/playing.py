@@ -1,7 +1,8 @@
 """Playing: driving a store so that it writes the rows of a log."""
 
-from whoheld.errors import AbsentError, HoldError, InvalidRow, SizeError, TurnError, Unplayed
-from whoheld.slots import KEY
+from whoheld.errors import AbsentError, HoldError, InvalidRow, NoNumber, NoSlot, SizeError, TurnError, Unplayed
+from whoheld.rows import is_row
+from whoheld.slots import KEY, is_version
 from whoheld.states import State
 from whoheld.store import Store
 
@@ -10,15 +11,19 @@ def played(rows, views=(), stays=()):
     """The store that was driven with these views and stays so that it wrote the rows of a valid log."""
     if not isinstance(rows, tuple):
         raise InvalidRow(0)
-    fates = State.of(rows).fates()
-    begins = {number: fates.first(number) for number in fates.outers}
+    if not all([is_row(row) for row in rows]):
+        # The first one that is not valid may be ahead of the first one that is no row.
+        State.of(rows)
+    begins = {row[1]: index for index, row in enumerate(rows) if row[0] == "open" and row[2] is None}
     for number, view in views:
         begins[number] = view
     play = Play(begins, stays)
-    for index, row in enumerate(rows):
-        play.turn(index)
-        play.write(index, row)
-    play.turn(len(rows))
+    try:
+        play.write_all(rows)
+    except Unplayed:
+        # What a store writes is valid, so rows that are not valid come to this, too; they are told first.
+        State.of(rows)
+        raise
     return play.store
 
 
@@ -27,31 +32,44 @@ class Play:
 
     def __init__(self, begins, stays):
         self.store = Store()
-        self._begins = begins
-        self._stays = stays
         self._transactions = {}
-        self._visits = []  # pairs of the end of a stay and its reader
+        # By numbers of rows: the transactions that begin then, the ends of the stays that begin then, and the readers
+        # that are closed then.
+        self._begins = {}
+        self._visits = {}
+        self._readers = {}
+        for number, view in begins.items():
+            self._begins.setdefault(view, []).append(number)
+        for view, end in stays:
+            self._visits.setdefault(view, []).append(end)
 
-    def turn(self, index):
-        """Closes and opens readers and begins transactions when so many rows are written."""
-        for end, reader in self._visits:
-            if end == index:
-                reader.close()
-        for number, view in self._begins.items():
-            if view == index:
-                self._transactions[number] = self.store.begin()
-        for view, end in self._stays:
-            if view == index:
-                self._visits.append((end, self.store.reader()))
+    def write_all(self, rows):
+        """Makes the calls that write the rows; raises Unplayed at the first one that is not written just so."""
+        for index, row in enumerate(rows):
+            self._turn(index)
+            self._write(index, row)
+        self._turn(len(rows))
 
-    def write(self, index, row):
-        """Makes the call that writes a row, and raises Unplayed if it does not write just this one."""
+    def _turn(self, index):
+        for reader in self._readers.get(index, []):
+            reader.close()
+        for number in self._begins.get(index, []):
+            self._transactions[number] = self.store.begin()
+        for end in self._visits.get(index, []):
+            self._readers.setdefault(end, []).append(self.store.reader())
+
+    def _write(self, index, row):
         try:
             self._call(row)
         except (HoldError, TurnError, AbsentError, SizeError):
             raise Unplayed(index) from None
-        if self.store.log[index:] != (row,):
+        if self.store.state.rows_from(index) != [row]:
             raise Unplayed(index)
+
+    def _transaction(self, number):
+        if number not in self._transactions:
+            raise NoNumber(number)
+        return self._transactions[number]
 
     def _call(self, row):
         store = self.store
@@ -60,7 +78,7 @@ class Play:
         elif row[0] in ("commit", "abort"):
             self._end(row[0], row[1])
         elif row[0] == "prepare":
-            self._transactions[row[1]].prepare()
+            self._transaction(row[1]).prepare()
         elif row[0] == "clean":
             store.clean(row[1])
         elif row[0] == "tidy":
@@ -77,11 +95,11 @@ class Play:
 
     def _sign(self, number, around):
         if around is not None:
-            self._transactions[number] = self._transactions[around].inner()
-        self._transactions[number].sign()
+            self._transactions[number] = self._transaction(around).inner()
+        self._transaction(number).sign()
 
     def _end(self, word, number):
-        transaction = self._transactions[number]
+        transaction = self._transaction(number)
         if transaction.state == "prepared":
             self.store.settle(number, commit=word == "commit")
         elif word == "commit":
@@ -90,11 +108,14 @@ class Play:
             transaction.abort()
 
     def _act(self, row):
-        transaction = self._transactions[row[1]]
+        transaction = self._transaction(row[1])
         if row[0] == "put":
             transaction.put(row[4], row[5])
             return
-        key = self.store.state[row[2], row[3]][KEY]
+        image = self.store.state[row[2], row[3]]
+        if not is_version(image):
+            raise NoSlot(row[3])
+        key = image[KEY]
         if row[0] == "change":
             transaction.change(key, row[6])
         elif row[0] == "lock":

@@ -22,7 +22,7 @@ class Store(Cleaner, Recoverer):
         """A new transaction, which is open."""
         transaction = Transaction(self, len(self._state))
         # Transactions that have ended never open again, and the rows tell of prepared ones.
-        self._begun = [other for other in self._begun if other.state == "open"] + [transaction]
+        self._begun = [other for other in self._begun if other._ending is None] + [transaction]
         return transaction
 
     def transactions(self):

@@ -1,6 +1,6 @@
 """Surveys: what one walk through a log finds about its cleanings, its words and its transactions."""
 
-from whoheld.bounds import ceiling_in, commit_in, floor_in
+from whoheld.bounds import ceiling_in, floor_in
 from whoheld.errors import InvalidRow, NotCleaning, NoTransaction
 from whoheld.names import is_integer
 from whoheld.rows import touched
@@ -21,19 +21,23 @@ class Survey:
         # By outer transaction, of each row that touches a version: its index, the commit of the maker, and that of
         # the ender or None.
         self._touches = {}
+        # By index, of the rows before it: the greatest floor, the last fall, -1 for none of them, and the row of the
+        # word that is in force there, or None.
+        self._floor_tops = [-1]
+        self._last_falls = [-1]
+        self._word_rows = [None]
         state = State()
         for index, row in enumerate(rows):
-            pages = state.pages
-            state.apply(row)
-            if row[0] in ("clean", "tidy"):
-                self._meet_cleaning(index, row, state, pages[row[1]])
-            elif touched(row) is not None:
-                self._meet_touch(index, row, state, pages[row[2]][row[3]])
+            if not state.can_stand(row):
+                raise InvalidRow(index)
+            self._meet(index, row, state)
         self._fates = state.fates()
-        self._falls = [index for index, row in enumerate(rows) if row[0] == "fall"]
-        self._heights = self._found_heights()
-        self._word_rows = self._found_word_rows()
-        self._stretches = {number: self._found_stretch(number) for number in self._fates.outers}
+        # By transaction: its range, and its end.
+        self._ranges = {}
+        self._ends = {}
+        for number, first, end, view in self._fates.outer_facts():
+            self._ranges[number] = self._found_range(number, first, end, view)
+            self._ends[number] = end
 
     def __len__(self):
         return len(self._rows)
@@ -61,22 +65,26 @@ class Survey:
 
     def height(self, row):
         """The greatest of the floors up to an index and of the falls before it, or -1."""
-        return self._heights[row]
+        before = max(self._floor_tops[row], self._last_falls[row])
+        return max(before, self._floors[row]) if row in self._floors else before
 
     def all_heights(self):
         """The tuple of the heights for each index, the length of the log included."""
-        return tuple(self._heights)
+        return tuple([self.height(row) for row in range(len(self._rows) + 1)])
 
     def heights_shown(self, row):
         """The ascending list of the pairs (row, number) of the rows that show the numbers of a height."""
-        falls = [(fall, fall) for fall in self._falls if fall < row]
+        falls = [(fall, fall) for fall in self._falls_before(row)]
         return sorted(falls + [(other, floor) for other, floor in self._floors.items() if other <= row])
 
     def stop_of(self, view, end):
         """The least row at which no reader with this view and end is left, or None."""
-        stops = [fall for fall in self._falls if view <= fall < end]
+        # The floors of rows ahead of the view are less than it.
+        if self._floor_tops[end] < view and self._last_falls[end] < view:
+            return None
+        stops = [fall for fall in self._falls_before(end) if view <= fall]
         stops = stops + [row for row, floor in self._floors.items() if view <= row < end and floor >= view]
-        return min(stops, default=None)
+        return min(stops)
 
     def word_row(self, row):
         """The row of the word in force at an index, or None."""
@@ -94,11 +102,11 @@ class Survey:
 
     def all_outers(self):
         """The ascending list of the numbers of the transactions."""
-        return list(self._fates.outers)
+        return list(self._ranges)
 
     def is_outer(self, value):
         """Whether any value is the number of a transaction."""
-        return is_integer(value) and value in self._stretches
+        return is_integer(value) and value in self._ranges
 
     def need_outer(self, number):
         """Raises NoTransaction if any value is not the number of a transaction."""
@@ -107,7 +115,7 @@ class Survey:
 
     def end_row(self, number):
         """The end of a transaction."""
-        return self._fates.end(number)
+        return self._ends[number]
 
     def commit_before(self, number, at):
         """The commit of a number by the rows before an index behind its open row, or None."""
@@ -115,9 +123,9 @@ class Survey:
 
     def lows(self, number):
         """The list of the pairs (bound, row) of the rows that bind the view of a transaction from below."""
-        first, end = self._fates.first(number), self._fates.end(number)
+        first, end = self._fates.first(number), self._ends[number]
         found = [(made + 1, index) for index, made, _ in self._touches_of(number)]
-        found = found + [(fall + 1, fall) for fall in self._falls if fall < first]
+        found = found + [(fall + 1, fall) for fall in self._falls_before(first)]
         found = found + [(floor + 1, row) for row, floor in self._floors.items() if row < end]
         return found + self._prepared_bounds(number)
 
@@ -129,11 +137,11 @@ class Survey:
 
     def stretch(self, number):
         """The range (low, high) of a transaction."""
-        return self._stretches[number]
+        return self._ranges[number]
 
     def lowest_views(self):
         """The ascending tuple of the pairs (number, low) of the transactions."""
-        return tuple([(number, low) for number, (low, _) in self._stretches.items()])
+        return tuple([(number, low) for number, (low, _) in self._ranges.items()])
 
     def holding_word(self, row):
         """The word in force at a span if it holds it, otherwise None."""
@@ -142,8 +150,9 @@ class Survey:
 
     def able_numbers(self, row):
         """The ascending list of the numbers of the transactions that can hold a span."""
-        lasting = [number for number in self._stretches if self.end_row(number) > row]
-        return [number for number in lasting if self.stretch(number)[0] <= self._ceilings[row]]
+        ceiling = self._ceilings[row]
+        able = [number for number, (low, _) in self._ranges.items() if low <= ceiling]
+        return [number for number in able if self._ends[number] > row]
 
     def open_pairs(self):
         """The list of the pairs (row, ceiling) of the open spans, ascending."""
@@ -157,41 +166,50 @@ class Survey:
         prepared = self._fates.prepared(number)
         return [] if prepared is None else [(prepared[1], prepared[0])]
 
+    def _falls_before(self, row):
+        # The last falls tell them all.
+        return sorted(set([fall for fall in self._last_falls[:row + 1] if fall >= 0]))
+
+    def _meet(self, index, row, state):
+        top, fall, told = self._floor_tops[-1], self._last_falls[-1], self._word_rows[-1]
+        if row[0] in ("clean", "tidy"):
+            images = state[row[1]]
+            state.enter(row)
+            top = max(top, self._meet_cleaning(index, row, state, images))
+        else:
+            if touched(row) is not None:
+                self._meet_touch(index, row, state)
+            state.enter(row)
+            if row[0] == "fall":
+                fall, told = index, None
+            elif row[0] == "word":
+                told = None if row[1] is None else index
+        self._floor_tops.append(top)
+        self._last_falls.append(fall)
+        self._word_rows.append(told)
+
     def _meet_cleaning(self, index, row, state, images):
-        self._floors[index] = floor_in(state, images, row)
+        floor = floor_in(state, images, row)
+        self._floors[index] = floor
         if row[0] == "clean":
             ceiling = ceiling_in(state, state[row[1]])
             if ceiling is not None:
                 self._ceilings[index] = ceiling
+        return floor
 
-    def _meet_touch(self, index, row, state, image):
-        made = commit_in(state, image[MAKER])
+    def _meet_touch(self, index, row, state):
+        image = state[row[2], row[3]]
+        made = state.commit_row(image[MAKER])
         # Versions of the own family are not committed while one of it acts.
         if made is not None:
-            touch = (index, made, commit_in(state, image[ENDER]))
+            touch = (index, made, state.commit_row(image[ENDER]))
             self._touches.setdefault(state.top_of(row[1]), []).append(touch)
 
-    def _found_stretch(self, number):
-        lows = [bound for bound, _ in self.lows(number)]
-        highs = [bound for bound, _ in self.highs(number)]
-        return (max([0] + lows), min(highs))
-
-    def _found_heights(self):
-        heights = []
-        height = -1
-        for index in range(len(self._rows) + 1):
-            if index > 0 and self._rows[index - 1][0] == "fall":
-                height = max(height, index - 1)
-            if index in self._floors:
-                height = max(height, self._floors[index])
-            heights.append(height)
-        return heights
-
-    def _found_word_rows(self):
-        found = [None]
-        for index, row in enumerate(self._rows):
-            if row[0] == "fall" or row == ("word", None):
-                found.append(None)
-            else:
-                found.append(index if row[0] == "word" else found[-1])
-        return found
+    def _found_range(self, number, first, end, view):
+        low = max(self._floor_tops[end], self._last_falls[first]) + 1
+        high = first
+        for _, made, ended in self._touches_of(number):
+            low = max(low, made + 1)
+            if ended is not None:
+                high = min(high, ended)
+        return (low, high) if view is None else (max(low, view), min(high, view))

@@ -4,7 +4,6 @@ from whoheld.errors import AbsentError, Blocked, Busy, Ended, Full, HoldError, I
 from whoheld.errors import NotOuter, SizeError, Taken, TooDeep, TurnError
 from whoheld.locking import verdict
 from whoheld.names import is_key, is_value
-from whoheld.pages import due_slot
 from whoheld.views import count, get, seen_pairs
 
 MOST_INNER = 3  # so many inner ones are open within one another
@@ -56,7 +55,7 @@ class Transaction:
         self._need_way(told, key)
         if told[0] == "refused":
             return self._be_refused(told)
-        page, slot = due_slot(self._house.state.pages, self._house.page_count)
+        page, slot = self._house.state.due(self._house.page_count)
         self._write("change", told[1], told[2], page, slot, value)
         return True
 
@@ -192,6 +191,8 @@ class Transaction:
         self._house.take((word, number) + parts)
 
     def _signed(self):
+        if self.number is not None:
+            return self.number
         around = None
         for member in self._line():
             if member.number is None:
@@ -229,7 +230,10 @@ class Transaction:
 
     def _family_number(self):
         # Those around one that has a number have theirs, so the family has one if this has.
-        return self._line()[0].number
+        top = self
+        while top.outer is not None:
+            top = top.outer
+        return top.number
 
 
 class Inner(Transaction):

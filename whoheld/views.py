@@ -1,19 +1,20 @@
 """What a view sees in a state."""
 
-from whoheld.pages import MOST_SLOTS, entries
-from whoheld.slots import ENDER, MAKER, VALUE, is_version
+from whoheld.pages import MOST_SLOTS
+from whoheld.slots import VALUE, is_version
 from whoheld.versions import is_before
 
 
 def seen(state, view, key, *, number=None):
     """The spot of the version of a key that is seen, or None."""
-    return _seen_of(state, view, state.entries_of(key), state.own_numbers(number))
+    pair = state.seen(key, view, state.own_numbers(number))
+    return None if pair is None else pair[0]
 
 
 def get(state, view, key, *, number=None):
     """The value of the version of a key that is seen, or None."""
-    spot = seen(state, view, key, number=number)
-    return None if spot is None else state[spot][VALUE]
+    pair = state.seen(key, view, state.own_numbers(number))
+    return None if pair is None else pair[1][VALUE]
 
 
 def scan(state, view, low, high, *, number=None):
@@ -36,25 +37,15 @@ def page_slots(state, view, page):
 def seen_keys(state, view, *, number=None):
     """The ascending list of the keys that have a version that is seen."""
     own = state.own_numbers(number)
-    found = entries(state.pages)
-    return [key for key in found if _seen_of(state, view, found[key], own) is not None]
+    return [key for key in state.keys_used() if state.seen(key, view, own) is not None]
 
 
 def seen_pairs(state, view, low, high, *, number=None):
     """The list of the pairs that `scan` yields."""
-    wanted = [key for key in seen_keys(state, view, number=number) if low <= key <= high]
-    return [(key, get(state, view, key, number=number)) for key in wanted]
-
-
-def _seen_of(state, view, spots, own):
-    # The spots are all entries of one key.
-    versions = [spot for spot in spots if is_version(state[spot])]
-    mine = [spot for spot in versions if state[spot][MAKER] in own]
-    if len(mine) == 0:
-        # Own versions hide those of others.
-        mine = [(page, slot) for page, slot in versions if _is_committed_below(state, view, page, slot)]
-    left = [spot for spot in mine if state[spot][ENDER] not in own]
-    return left[0] if len(left) > 0 else None
+    own = state.own_numbers(number)
+    wanted = [key for key in state.keys_used() if low <= key <= high]
+    found = [(key, state.seen(key, view, own)) for key in wanted]
+    return [(key, pair[1][VALUE]) for key, pair in found if pair is not None]
 
 
 def _is_committed_below(state, view, page, slot):
