@@ -39,10 +39,10 @@ class Far(House):
         """Takes the synced rows of a store that it did not take yet and returns how many these were."""
         rows = store.log[:store.synced]
         taken = self.log
-        for index, (mine, other) in enumerate(zip(taken, rows)):
-            if mine != other:
-                raise Strayed(index)
-        if len(taken) > len(rows):
+        if taken != rows[:len(taken)]:
+            for index, (mine, other) in enumerate(zip(taken, rows)):
+                if mine != other:
+                    raise Strayed(index)
             raise Strayed(len(rows))
         added = rows[len(taken):]
         # A row that names a page which is not here is told before any row is taken.

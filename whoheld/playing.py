@@ -33,11 +33,11 @@ class Play:
     def __init__(self, begins, stays):
         self.store = Store()
         self._transactions = {}
-        # By numbers of rows: the transactions that begin then, the ends of the stays that begin then, and the readers
-        # that are closed then.
+        # By the number of rows that are written then: the transactions that begin, the ends of the stays that begin,
+        # and the readers that are closed.
         self._begins = {}
         self._visits = {}
-        self._readers = {}
+        self._closings = {}
         for number, view in begins.items():
             self._begins.setdefault(view, []).append(number)
         for view, end in stays:
@@ -51,12 +51,12 @@ class Play:
         self._turn(len(rows))
 
     def _turn(self, index):
-        for reader in self._readers.get(index, []):
+        for reader in self._closings.get(index, []):
             reader.close()
         for number in self._begins.get(index, []):
             self._transactions[number] = self.store.begin()
         for end in self._visits.get(index, []):
-            self._readers.setdefault(end, []).append(self.store.reader())
+            self._closings.setdefault(end, []).append(self.store.reader())
 
     def _write(self, index, row):
         try:
