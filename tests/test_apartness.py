@@ -41,6 +41,18 @@ class AreApartTest(unittest.TestCase):
         # The floor of the last one is 14: it is less than the ceiling 17.
         same(self, [are_apart(rows, *pair) for pair in ((21, 22), (21, 23), (22, 23))], [False, False, True])
 
+    def test_barred_logs(self):
+        # The fall bars both spans; neither is apart from itself, nor from the one before it.
+        rows = TWO_COMMITS + (("fall",), ("clean", 0, (), (0,)), ("clean", 0, (), ()))
+        same(self, [are_apart(rows, *pair) for pair in ((7, 8), (8, 7), (7, 7), (8, 8))], [True, False, False, False])
+        same(self, [is_apart(rows, value) for value in ((7, 8), (8, 7), (7, 7), (7,))], [True, False, False, True])
+        for seed in range(40):
+            rows = any_log(random.Random(seed), 35)
+            showing = Showing(rows)
+            for row, _ in showing.open:
+                for other, _ in showing.open:
+                    same(self, are_apart(rows, row, other), showing.are_apart(row, other))
+
     def test_any_values(self):
         for value in ODD:
             same(self, [are_apart(EXAMPLE, value, 10), are_apart(EXAMPLE, 6, value), are_apart(EXAMPLE, value, value)],

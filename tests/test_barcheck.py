@@ -90,6 +90,11 @@ class ShowsBarTest(unittest.TestCase):
         rows = TWO_COMMITS + (("word", 2), ("tidy", 0, (0,)))
         self.both(rows, ("word", 6, 7), False)
 
+    def test_words_at_the_floor(self):
+        for word in range(7):
+            rows = TWO_COMMITS + (("word", word), ("clean", 0, (), (0,)))
+            self.both(rows, ("word", 6, 7), word <= 2)
+
     def test_spans_that_are_held(self):
         rows = SPAN[:6] + (("fall",), ("word", 5), ("clean", 0, (), (0,)))
         self.both(rows, ("span", 8, 6), False)

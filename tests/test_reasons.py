@@ -100,6 +100,18 @@ class ReasonsTest(ReasonCase):
         self.assertEqual(self.check(rows, 11), {("left", 1, 9, 10), ("left", 0, 9, 10)})
         self.assertEqual(self.check(rows, 12), {("removed", 1, 9, 10), ("marked", 0, 9, 10)})
 
+    def test_two_versions_that_one_transaction_ended(self):
+        # The slot of one of them has another version by then.
+        rows = (("open", 1, None), ("put", 1, 0, 0, "a", "x"), ("put", 1, 0, 1, "b", "x"), ("commit", 1), ("open", 2, None),
+                ("strike", 2, 0, 0), ("strike", 2, 0, 1), ("commit", 2), ("tidy", 0, (0,)), ("sweep",), ("open", 3, None),
+                ("put", 3, 0, 0, "c", "x"))
+        kept = rows + (("commit", 3), ("clean", 0, (), (1,)))
+        self.assertEqual(self.check(kept, 13), {("marked", 1, 2, 3), ("left", 1, 6, 7), ("left", 0, 11, 12)})
+        same(self, ceiling_reason(kept, 13), ("left", 1, 6, 7))
+        gone = rows + (("abort", 3), ("clean", 0, (0, 1), ()))
+        self.assertEqual(self.check(gone, 13), {("removed", 1, 6, 7)})
+        same(self, floor_reason(gone, 13), ("removed", 1, 6, 7))
+
     def test_inner_numbers(self):
         rows = (("open", 1, None), ("open", 2, 1), ("put", 2, 0, 0, "a", "x"), ("commit", 2), ("open", 3, 1),
                 ("strike", 3, 0, 0), ("abort", 3), ("commit", 1), ("clean", 0, (), (0,)), ("open", 4, None), ("open", 5, 4),

@@ -560,6 +560,17 @@ class CleaningTest(StateCase):
                     row = ("clean", 0, removed, marked)
                     self.assertIs(self.after(*rows).can_stand(row), (removed, marked) in allowed, row)
 
+    def test_commits_that_follow_one_another(self):
+        # The commits are 3, 8 and 9: a horizon of 9 is between the last two.
+        rows = (
+            ("open", 1, None), ("put", 1, 0, 0, "a", "x"), ("put", 1, 0, 1, "b", "x"), ("commit", 1), ("open", 2, None),
+            ("open", 3, None), ("strike", 2, 0, 0), ("strike", 3, 0, 1), ("commit", 2), ("commit", 3),
+        )
+        for removed, marked in (((), ()), ((), (0, 1)), ((0,), (1,)), ((0, 1), ())):
+            self.accepts(self.after(*rows), ("clean", 0, removed, marked))
+        for removed, marked in (((1,), (0,)), ((0,), ()), ((1,), ()), ((), (0,))):
+            self.refuses(self.after(*rows), ("clean", 0, removed, marked))
+
     def test_what_a_cleaning_leaves(self):
         state = self.after(*FAMILIES)
         self.assertEqual(state.cleaned(0, 0), ((2, 3, 6), ()))

@@ -54,7 +54,7 @@ def read_command(line):
     if line.startswith(LOADING):
         return words[0], [("rows", _read_written_rows(line[len(LOADING):]))]
     kinds = list(COMMANDS[words[0]])
-    if words[0] in ENDLESS and len(words) > len(kinds) + 1:
+    if words[0] in ENDLESS:
         kinds = kinds + ["integer"] * (len(words) - len(kinds) - 1)
     if len(words) != len(kinds) + 1:
         raise UnknownCommand()
