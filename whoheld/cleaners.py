@@ -35,7 +35,7 @@ class Cleaner(House):
         told = []
         for page in chosen:
             removed, marked = self._state.cleaned(page, self.horizon)
-            self.take(("clean", page, removed, marked))
+            self._enter(("clean", page, removed, marked))
             told.append((page, removed, marked))
         return tuple(told)
 
@@ -50,21 +50,21 @@ class Cleaner(House):
             chosen.append(slot)
         removed = tuple(sorted(chosen))
         if len(removed) > 0:
-            self.take(("tidy", page, removed))
+            self._enter(("tidy", page, removed))
         return removed
 
     def sweep(self):
         """Makes all slots with stubs free and returns how many they were."""
         stubs = self._state.stubs
         if stubs > 0:
-            self.take(("sweep",))
+            self._enter(("sweep",))
         return stubs
 
     def hear(self, word):
         """Writes what a far copy said: its oldest view, or None."""
         if word is not None and not is_below(word, len(self._state) + 1):
             raise InvalidView(word)
-        self.take(("word", word))
+        self._enter(("word", word))
 
     def _need_page(self, page):
         if not is_below(page, self._page_count):

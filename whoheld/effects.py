@@ -18,7 +18,7 @@ def enter_pages(fates, pages, row):
         image = pages[row[2]][row[3]]
         set_image(pages, row[2:4], with_part(image, LOCKERS, tuple(sorted(image[LOCKERS] + (row[1],)))))
     elif word == "clean":
-        pages[row[1]] = tuple([_cleaned(fates, image, slot, row) for slot, image in enumerate(pages[row[1]])])
+        pages[row[1]] = _cleaned(fates, pages[row[1]], row[2], row[3])
     elif word == "tidy":
         pages[row[1]] = _tidied(pages[row[1]], row[2])
 
@@ -31,16 +31,19 @@ def set_image(pages, spot, image):
 
 
 def _tidied(images, removed):
-    return tuple([stub_of(image) if slot in removed else image for slot, image in enumerate(images)])
+    left = list(images)
+    for slot in removed:
+        left[slot] = stub_of(images[slot])
+    return tuple(left)
 
 
-def _cleaned(fates, image, slot, row):
-    if not is_version(image):
-        return image
-    if slot in row[2]:
-        return stub_of(image)
-    if slot in row[3]:
-        image = with_part(image, OLD, True)
-    if fates.is_aborted(image[ENDER]):
-        image = with_part(image, ENDER, None)
-    return image
+def _cleaned(fates, images, removed, marked):
+    left = list(images)
+    for slot in removed:
+        left[slot] = stub_of(images[slot])
+    for slot in marked:
+        left[slot] = with_part(images[slot], OLD, True)
+    for slot, image in enumerate(left[:]):
+        if is_version(image) and fates.is_aborted(image[ENDER]):
+            left[slot] = with_part(image, ENDER, None)
+    return tuple(left)

@@ -30,10 +30,10 @@ class Far(House):
 
     def take(self, row):
         """Takes a row and cancels the readers that it may remove something from; a fall ends none of them."""
-        pages = self._state.pages
-        self._write(row)
+        self._need_row(row)
         if row[0] in ("clean", "tidy"):
-            self._cancel(floor_in(self._state, pages[row[1]], row))
+            self._cancel(floor_in(self._state.fates_now(), self._state.images_on(row[1]), row))
+        self._state.enter(row)
 
     def follow(self, store):
         """Takes the synced rows of a store that it did not take yet and returns how many these were."""

@@ -37,10 +37,8 @@ class House:
 
     def take(self, row):
         """Writes a row that is valid behind the log and names pages of the house only."""
-        self._write(row)
-        if row[0] == "fall":
-            for holder in self._readers + self._begun:
-                holder.finish("fallen")
+        self._need_row(row)
+        self._enter(row)
 
     def reader(self):
         """A new reader, which is open."""
@@ -59,10 +57,16 @@ class House:
         with self.reader() as reader:
             return work(reader)
 
-    def _write(self, row):
-        if self._page_count < MOST_PAGES and is_row(row) and not self._has_pages_of(row):
+    def _need_row(self, row):
+        if self._page_count < MOST_PAGES and is_row(row):
+            if any([page >= self._page_count for page in pages_in(row)]):
+                raise InvalidRow(len(self._state))
+        if not self._state.can_stand(row):
             raise InvalidRow(len(self._state))
-        self._state.apply(row)
 
-    def _has_pages_of(self, row):
-        return all([page < self._page_count for page in pages_in(row)])
+    def _enter(self, row):
+        # What the house writes by itself comes here straight: it is valid.
+        self._state.enter(row)
+        if row[0] == "fall":
+            for holder in self._readers + self._begun:
+                holder.finish("fallen")

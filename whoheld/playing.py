@@ -51,11 +51,11 @@ class Play:
         self._turn(len(rows))
 
     def _turn(self, index):
-        for reader in self._closings.get(index, []):
+        for reader in self._closings.get(index, ()):
             reader.close()
-        for number in self._begins.get(index, []):
+        for number in self._begins.get(index, ()):
             self._transactions[number] = self.store.begin()
-        for end in self._visits.get(index, []):
+        for end in self._visits.get(index, ()):
             self._closings.setdefault(end, []).append(self.store.reader())
 
     def _write(self, index, row):

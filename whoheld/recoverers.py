@@ -28,25 +28,19 @@ class Recoverer(House):
         """Keeps all rows so that no fall can lose them."""
         self._synced = len(self._state)
 
-    def take(self, row):
-        """Writes a row, and keeps all rows up to it if it is one that no fall can lose."""
-        super().take(row)
-        if row[0] == "fall" or (row[0] in ("commit", "abort", "prepare") and self._state.is_outer(row[1])):
-            self.sync()
-
     def fall(self, *, lost=0):
         """Loses the last rows and writes a fall row."""
         if not is_below(lost, len(self._state) - self._synced + 1):
             raise InvalidLoss(lost)
         if lost > 0:
             self._state.lose(lost)
-        self.take(("fall",))
+        self._enter(("fall",))
 
     def settle(self, number, *, commit=True):
         """Commits a prepared transaction, or aborts it."""
         if not is_number(number) or number not in [waiting for waiting, _ in self._state.waiting()]:
             raise NotPrepared(number)
-        self.take(("commit" if commit else "abort", number))
+        self._enter(("commit" if commit else "abort", number))
 
     def _fill(self, rows):
         if not isinstance(rows, tuple):
@@ -59,3 +53,8 @@ class Recoverer(House):
             if fates.prepared(number) is None:
                 raise Unsettled(number)
         self.sync()
+
+    def _enter(self, row):
+        super()._enter(row)
+        if row[0] == "fall" or (row[0] in ("commit", "abort", "prepare") and self._state.is_outer(row[1])):
+            self.sync()

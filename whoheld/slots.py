@@ -41,11 +41,6 @@ def is_version(image):
     return image is not None and image[0] == "version"
 
 
-def is_stub(image):
-    """Whether the slot of this image has a stub."""
-    return image is not None and image[0] == "stub"
-
-
 def new_version(key, value, maker):
     """The image of a version that was just made."""
     return ("version", key, value, maker, None, False, ())

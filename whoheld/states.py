@@ -83,6 +83,14 @@ class State:
         """A copy of the fates of the rows."""
         return self._fates.twin()
 
+    def fates_now(self):
+        """The fates of the rows, which go on with the rows and which callers only ask."""
+        return self._fates
+
+    def images_on(self, page):
+        """The page image of an integer that is a page."""
+        return self._pages[page]
+
     def __getitem__(self, at):
         if not isinstance(at, tuple) or len(at) != 2:
             return self._page_at(at)
@@ -156,14 +164,6 @@ class State:
         """The ascending list of the outer transactions of those of `others` that are open and of another family."""
         return sorted(set(self._fates.rivals(number, others)))
 
-    def commit_row(self, number):
-        """The commit of a number, or None; None for None."""
-        return self._fates.commit_row(number)
-
-    def is_aborted(self, number):
-        """Whether a number is aborted; None is not."""
-        return self._fates.is_aborted(number)
-
     def fate_of(self, number):
         """The pair of the fate of a number and of the row that decided it, as `Fates.fate` tells it."""
         return self._fates.fate(number)
@@ -171,10 +171,6 @@ class State:
     def is_outer(self, number):
         """Whether a number is that of an outer transaction."""
         return self._fates.outer_of(number) is None
-
-    def top_of(self, number):
-        """The number of the outer transaction of the family of a number."""
-        return self._fates.top_of(number)
 
     def next_number(self):
         """The number that the next open row has."""

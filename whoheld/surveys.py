@@ -3,9 +3,11 @@
 from whoheld.bounds import ceiling_in, floor_in
 from whoheld.errors import InvalidRow, NotCleaning, NoTransaction
 from whoheld.names import is_integer
-from whoheld.rows import touched
 from whoheld.slots import ENDER, MAKER
 from whoheld.states import State
+
+CLEANING = ("clean", "tidy")
+TOUCHING = ("change", "strike", "lock", "refused")
 
 
 class Survey:
@@ -21,17 +23,24 @@ class Survey:
         # By outer transaction, of each row that touches a version: its index, the commit of the maker, and that of
         # the ender or None.
         self._touches = {}
+        state = State()
+        for index, row in enumerate(rows):
+            if not state.can_stand(row):
+                raise InvalidRow(index)
+            if row[0] in CLEANING:
+                self._meet_cleaning(index, row, state)
+            else:
+                if row[0] in TOUCHING:
+                    self._meet_touch(index, row, state)
+                state.enter(row)
+        self._fates = state.fates_now()
         # By index, of the rows before it: the greatest floor, the last fall, -1 for none of them, and the row of the
         # word that is in force there, or None.
         self._floor_tops = [-1]
         self._last_falls = [-1]
         self._word_rows = [None]
-        state = State()
         for index, row in enumerate(rows):
-            if not state.can_stand(row):
-                raise InvalidRow(index)
-            self._meet(index, row, state)
-        self._fates = state.fates()
+            self._meet_bounds(index, row)
         # By transaction: its range, and its end.
         self._ranges = {}
         self._ends = {}
@@ -170,40 +179,33 @@ class Survey:
         # The last falls tell them all.
         return sorted(set([fall for fall in self._last_falls[:row + 1] if fall >= 0]))
 
-    def _meet(self, index, row, state):
+    def _meet_cleaning(self, index, row, state):
+        self._floors[index] = floor_in(state.fates_now(), state.images_on(row[1]), row)
+        state.enter(row)
+        if row[0] == "clean":
+            ceiling = ceiling_in(state.fates_now(), state.images_on(row[1]))
+            if ceiling is not None:
+                self._ceilings[index] = ceiling
+
+    def _meet_bounds(self, index, row):
         top, fall, told = self._floor_tops[-1], self._last_falls[-1], self._word_rows[-1]
-        if row[0] in ("clean", "tidy"):
-            images = state[row[1]]
-            state.enter(row)
-            top = max(top, self._meet_cleaning(index, row, state, images))
-        else:
-            if touched(row) is not None:
-                self._meet_touch(index, row, state)
-            state.enter(row)
-            if row[0] == "fall":
-                fall, told = index, None
-            elif row[0] == "word":
-                told = None if row[1] is None else index
+        if index in self._floors:
+            top = max(top, self._floors[index])
+        elif row[0] == "fall":
+            fall, told = index, None
+        elif row[0] == "word":
+            told = None if row[1] is None else index
         self._floor_tops.append(top)
         self._last_falls.append(fall)
         self._word_rows.append(told)
 
-    def _meet_cleaning(self, index, row, state, images):
-        floor = floor_in(state, images, row)
-        self._floors[index] = floor
-        if row[0] == "clean":
-            ceiling = ceiling_in(state, state[row[1]])
-            if ceiling is not None:
-                self._ceilings[index] = ceiling
-        return floor
-
     def _meet_touch(self, index, row, state):
-        image = state[row[2], row[3]]
-        made = state.commit_row(image[MAKER])
+        image, fates = state.images_on(row[2])[row[3]], state.fates_now()
+        made = fates.commit_row(image[MAKER])
         # Versions of the own family are not committed while one of it acts.
         if made is not None:
-            touch = (index, made, state.commit_row(image[ENDER]))
-            self._touches.setdefault(state.top_of(row[1]), []).append(touch)
+            touch = (index, made, fates.commit_row(image[ENDER]))
+            self._touches.setdefault(fates.top_of(row[1]), []).append(touch)
 
     def _found_range(self, number, first, end, view):
         low = max(self._floor_tops[end], self._last_falls[first]) + 1

@@ -116,7 +116,7 @@ class Transaction:
             raise NotOuter()
         self._need_turn()
         number = self._signed()
-        self._house.take(("prepare", number, self._view))
+        self._house._enter(("prepare", number, self._view))
         self._ending = "prepared"
         return number
 
@@ -188,7 +188,7 @@ class Transaction:
 
     def _write(self, word, *parts):
         number = self._signed()
-        self._house.take((word, number) + parts)
+        self._house._enter((word, number) + parts)
 
     def _signed(self):
         if self.number is not None:
@@ -197,7 +197,7 @@ class Transaction:
         for member in self._line():
             if member.number is None:
                 number = self._house.state.next_number()
-                self._house.take(("open", number, around))
+                self._house._enter(("open", number, around))
                 member.number = number
             around = member.number
         return self.number
@@ -205,7 +205,7 @@ class Transaction:
     def _leave(self, word, ending):
         # One without a number is in no row.
         if self.number is not None:
-            self._house.take((word, self.number))
+            self._house._enter((word, self.number))
         self._end(ending)
 
     def _end(self, ending):

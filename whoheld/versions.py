@@ -61,10 +61,10 @@ def cleaned_slots(fates, images, horizon):
     removed, marked = [], []
     for slot, image in enumerate(images):
         if is_version(image):
-            ended, made = fates.commit_row(image[ENDER]), fates.commit_row(image[MAKER])
+            ended = fates.commit_row(image[ENDER])
             if (ended is not None and ended < horizon) or fates.is_aborted(image[MAKER]):
                 removed.append(slot)
-            elif not image[OLD] and made is not None and made < horizon:
+            elif not image[OLD] and is_before(fates.commit_row(image[MAKER]), horizon):
                 marked.append(slot)
     return (tuple(removed), tuple(marked))
 
